@@ -100,17 +100,21 @@ func TestCallsInAnyOrder(t *testing.T) {
 	}
 }
 
+func spoilBytes(r *rand.Rand, s string) string {
+	b := []byte(s)
+	for range 1 + r.IntN(4) {
+		b[r.IntN(len(b))] = pick(r, 0, 1, 2, ' ', 'S', 'Q', 0xfe, 0xff, byte(r.Uint32()))
+	}
+	return string(b[:pick(r, len(b), len(b), r.IntN(len(b)))])
+}
+
 // P1: Store ends at any bytes, and what it refuses changes nothing.
 func TestStoreEndsAtAnyBytes(t *testing.T) {
 	r := rand.New(rand.NewPCG(13, 14))
 	right := bytes(t, whole())
 	for range 20000 {
 		a := archive.New()
-		b := []byte(right)
-		for range 1 + r.IntN(4) {
-			b[r.IntN(len(b))] = pick(r, 0, 1, 2, ' ', 'S', 'Q', 0xfe, 0xff, byte(r.Uint32()))
-		}
-		data := string(b[:pick(r, len(b), len(b), r.IntN(len(b)))])
+		data := spoilBytes(r, right)
 		want := [4]int{}
 		if e := a.Store(data); e == api.OK {
 			want = [4]int{1, 1, 1, 1}

@@ -74,7 +74,7 @@ func (a *Archive) checkPlace(d description) api.Errno {
 
 func (a *Archive) isElsewhere(d description) bool {
 	for name, other := range a.pictures {
-		if name != d.value(api.Picture) && (d.splits(other, api.Series, api.Study) || d.splits(other, api.Study, api.Identity)) {
+		if name != d.value(api.Picture) && (d.splits(other.description, api.Series, api.Study) || d.splits(other.description, api.Study, api.Identity)) {
 			return true
 		}
 	}

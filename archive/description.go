@@ -39,6 +39,20 @@ func wordsOf(l []api.Element) []api.Element {
 // value is empty, too, where the element is missing.
 func (d description) value(tag int) string { return d[tag].Value }
 
+func (d description) put(tag int, value string) {
+	d[tag] = api.Element{Tag: tag, Kind: kindOf(tag), Value: value}
+}
+
+// elementOf is one without a kind and a value where the tag is missing.
+func elementOf(l []api.Element, tag int) api.Element {
+	for _, x := range l {
+		if x.Tag == tag {
+			return x
+		}
+	}
+	return api.Element{}
+}
+
 func (d description) hasNames() bool {
 	for _, tag := range names {
 		if d.value(tag) == "" {

@@ -5,7 +5,27 @@ import (
 	"testing"
 
 	"folio/api"
+	"folio/dataset"
 )
+
+// P11: a query leaves what is kept as it is, although its answers have more.
+func TestFindKeepsNothing(t *testing.T) {
+	a, b := New(), New()
+	l := []api.Element{{Tag: api.Level, Kind: api.Code, Value: "PATIENT"}, {Tag: api.StudyCount, Kind: api.Number}}
+	query, _ := dataset.Encode(l)
+	for _, x := range []*Archive{a, b} {
+		data, _ := dataset.Encode([]api.Element{
+			{Tag: api.Picture, Kind: api.Name, Value: "1"}, {Tag: api.Identity, Kind: api.Text, Value: "A"},
+			{Tag: api.Study, Kind: api.Name, Value: "1"}, {Tag: api.Series, Kind: api.Name, Value: "1"},
+		})
+		if e := x.Store(data); e != api.OK {
+			t.Fatalf("P8: Store = %d", e)
+		}
+	}
+	if l, e := a.Find(query); e != api.OK || len(l) != 1 || !reflect.DeepEqual(a, b) {
+		t.Errorf("P11: Find = %q, %d, and the archive is %+v, want %+v", l, e, a, b)
+	}
+}
 
 // P8: elements with other tags are of no use, so are Level and the counts.
 func TestDescribeKeepsWhatIsOfUse(t *testing.T) {

@@ -2,7 +2,6 @@ package archive_test
 
 import (
 	"strconv"
-	"strings"
 	"testing"
 
 	"folio/api"
@@ -96,26 +95,7 @@ func TestStoreReadsAnyWriting(t *testing.T) {
 
 // P8: what is wrong by Decode.
 func TestStoreRefusesWhatIsNoDataSet(t *testing.T) {
-	right := bytes(t, ordinary.elements())
-	begin := "\x00\x00\x01\x00SQ\x00\x00\xff\xff\xff\xff" + "\xfe\xff\x00\xe0\xff\xff\xff\xff"
-	end := "\xfe\xff\x0d\xe0\x00\x00\x00\x00" + "\xfe\xff\xdd\xe0\x00\x00\x00\x00"
-	for _, c := range []struct {
-		name string
-		data string
-		want api.Errno
-	}{
-		{"a letter", "x", api.ErrForm},
-		{"a byte behind", right + "\x00", api.ErrForm},
-		{"a byte ahead", "\x00" + right, api.ErrForm},
-		{"the last byte cut off", right[:len(right)-1], api.ErrForm},
-		{"a tag that falls", right + right, api.ErrOrder},
-		{"a kind that is none", right + "\xff\xff\xff\xffXX\x00\x00", api.ErrKind},
-		{"a value that is too long", right + "\xff\xff\xff\xffLO\x42\x00" + strings.Repeat("a", 66), api.ErrLong},
-		{"too many bytes", strings.Repeat("\x00", api.MaxBytes+1), api.ErrLong},
-		{"2 sequences within one another", strings.Repeat(begin, 2) + strings.Repeat(end, 2), api.ErrUnique},
-		{"3 sequences within one another", strings.Repeat(begin, 3) + strings.Repeat(end, 3), api.ErrDepth},
-		{"no bytes", "", api.ErrUnique},
-	} {
+	for _, c := range undecodable(bytes(t, ordinary.elements()), api.ErrUnique) {
 		a := archive.New()
 		if e := a.Store(c.data); e != c.want {
 			t.Errorf("P8: %s: Store = %d, want %d", c.name, e, c.want)

@@ -2,8 +2,31 @@ package archive
 
 import "folio/api"
 
-// names are the tags that name what there is on each level, PATIENT first.
+// levels are the values of Level: each stands above the next.
+var levels = [4]string{"PATIENT", "STUDY", "SERIES", "IMAGE"}
+
+// names are the tags that name what there is on each level.
 var names = [4]int{api.Identity, api.Study, api.Series, api.Picture}
+
+// counts are the tags that tell how many there are one level below; below
+// pictures there is nothing.
+var counts = [3]int{api.StudyCount, api.SeriesIn, api.PicturesIn}
+
+// rowOf is the highest level on which a tag can be asked for. Level goes with
+// each; a tag of no use lies below them all.
+func rowOf(tag int) int {
+	switch tag {
+	case api.Level, api.Identity, api.Patient, api.Birth, api.StudyCount:
+		return 0
+	case api.Study, api.Day, api.Hour, api.Order, api.SeriesIn:
+		return 1
+	case api.Series, api.Way, api.SeriesNo, api.PicturesIn:
+		return 2
+	case api.Picture, api.PictureNo, api.Parts:
+		return 3
+	}
+	return len(levels)
+}
 
 // kindOf is empty for a tag that is of no use.
 func kindOf(tag int) string {
